@@ -1,0 +1,1 @@
+"""Deedstand: a text editor in which every deed can be taken out alone."""

@@ -1,0 +1,6 @@
+"""The kinds of numbers."""
+
+
+def is_number(thing):
+    """Return whether thing, any value, is an integer of at least 0."""
+    return isinstance(thing, int) and not isinstance(thing, bool) and thing >= 0
