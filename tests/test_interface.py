@@ -27,8 +27,37 @@ STAGE_1 = {
                     "text_of(births, cuts, stand)"),
 }
 
-FUNCTIONS = STAGE_1
-METHODS = {}
+STAGE_2 = {
+    "chainpapers": ("chain_paper(births, row)", "chain_fits(births, row, paper)"),
+    "refusals": ("two_choices(births, cuts, stand)", "untold_stretch(births, one, other)"),
+    "judges": ("choices_fit(births, cuts, stand, thing)",),
+    "treenodes": ("node_of(left, piece, right, births)", "height_of(tree)", "shown_of(tree)", "feeds_of(tree)",
+                  "signs_in(tree)", "mask_of(tree)"),
+    "treejoins": ("joined_by(left, piece, right, births)", "joined_two(left, right, births)",
+                  "first_taken(tree, births)", "built(pieces, births)"),
+    "treecuts": ("cut_shown(tree, births, place)", "cut_by(tree, births, deed, place, many)",
+                 "laid_in(tree, births, place, chunk, *, choice=0)"),
+    "treefinds": ("sign_shown(tree, place)", "feed_place(tree, births, many)", "feeds_ahead(tree, births, place)",
+                  "shown_ahead(tree, births, sign)"),
+    "restanding": ("restood(tree, births, stand, flip)",),
+    "treereading": ("pieces_of(tree)", "signs_of(tree)", "text_between(tree, births, low, high)",
+                    "is_sound(tree, births, stand)", "tidied(tree, births)"),
+    "weaves": ("fresh_weave()",),
+    "nodeways": ("parent_of(nodes, node)", "children_of(nodes, node)", "path_of(nodes, node)",
+                 "stand_at(nodes, node)", "road_between(nodes, one, other)", "replayed(nodes, node)"),
+    "cutstretches": ("joined_cuts(stretches)", "cut_signs(stretches)"),
+    "gapplaces": ("gap_of(births, row, sign)", "anchor_place(births, row, anchor)", "anchor_at(row, place, side)"),
+}
+
+FUNCTIONS = {**STAGE_1, **STAGE_2}
+METHODS = {
+    ("weaves", "Weave"): (
+        "__init__(self, births, stand, tree)", "text(self)", "size(self)", "row_many(self)", "row(self, line)",
+        "row_start(self, line)", "spot(self, place)", "place_at(self, line, column)", "sign_before(self, place)",
+        "sign_behind(self, place)", "stretch(self, low, high)", "row_signs(self)",
+        "laid_round(self, deed, splices, *, choices=())", "turned_to(self, stand)", "tidy(self)",
+    ),
+}
 
 
 class TestInterface(unittest.TestCase):
