@@ -62,9 +62,9 @@ def back_round(text, splices):
 def moved_by(place, side, splice):
     """Return where one splice moves an anchor with this place and side."""
     at, cut, put = splice
-    if place < at or (side == 0 and place == at):
+    if place < at:
         return place
-    if place > at + cut or (side == 1 and place == at + cut):
+    if place > at + cut:
         return place - cut + len(put)
     return at + side * len(put)
 

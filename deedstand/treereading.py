@@ -32,7 +32,7 @@ def letters_within(tree, births, low, high):
     begin = shown_of(left)
     end = begin + shown_in(piece)
     letters = ""
-    if low < end and high > begin and end > begin:
+    if high > begin:
         chunk, start = piece[:2]
         letters = births[chunk][3][start + max(low - begin, 0):start + min(high, end) - begin]
     ahead = letters_within(left, births, low, high)

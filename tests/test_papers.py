@@ -171,7 +171,7 @@ class TestRefusals(unittest.TestCase):
         rng = rng_for("refusals")
         many = {True: 0, False: 0}
         for _ in range(200):
-            births = drawn_births(rng, rng.randint(0, 6))
+            births = drawn_births(rng, rng.randint(0, 7), longest=rng.choice((2, 5)))
             cuts = drawn_cuts(rng, births)
             kept = dict(cuts)
             told = closed(births)

@@ -1,0 +1,19 @@
+"""What README.md shows is so."""
+
+import doctest
+import pathlib
+import unittest
+
+README = pathlib.Path(__file__).resolve().parent.parent / "README.md"
+
+
+class TestReadme(unittest.TestCase):
+
+    def test_examples(self):
+        failed, tried = doctest.testfile(str(README), module_relative=False)
+        self.assertEqual(failed, 0)
+        self.assertGreater(tried, 0)
+
+
+if __name__ == "__main__":
+    unittest.main()
