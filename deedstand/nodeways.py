@@ -1,7 +1,18 @@
 """The nodes of a sheet, and the ways between them."""
 
+from deedstand.kinds import is_number
 from deedstand.splicing import spliced
 from deedstand.stands import turned
+
+
+def is_node(nodes, thing):
+    """Return whether thing, any value, is the number of a node."""
+    return is_number(thing) and thing < len(nodes)
+
+
+def is_edit(nodes, thing):
+    """Return whether thing, any value, is the number of an edit node."""
+    return is_node(nodes, thing) and nodes[thing][0] == "edit"
 
 
 def parent_of(nodes, node):

@@ -34,3 +34,13 @@ def row_bounds(text, line):
         raise BadPlace(line)
     begin = sum([len(row) + 1 for row in rows[:line]])
     return (begin, begin + len(rows[line]))
+
+
+def starts_line(text, place):
+    """Return whether a line starts at a place."""
+    return place == 0 or text[place - 1] == "\n"
+
+
+def ends_line(text, place):
+    """Return whether a line ends at a place."""
+    return place == len(text) or text[place] == "\n"

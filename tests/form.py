@@ -38,6 +38,11 @@ NODES = {
 }
 
 
+def is_builtin(name):
+    """Whether a builtin has the name; a shell leaves its last value in _."""
+    return name != "_" and hasattr(builtins, name)
+
+
 def names_bound(node):
     """The names that a function's parameters and rows bind."""
     found = []
@@ -121,7 +126,7 @@ def module_complaints(tree):
     for name in sorted(set(bound)):
         if bound.count(name) > 1:
             yield f"L15 {name} is bound twice"
-        if hasattr(builtins, name):
+        if is_builtin(name):
             yield f"L15 {name} is the name of a builtin"
 
 
@@ -136,7 +141,7 @@ def function_complaints(tree):
             continue
         where = f"line {node.lineno}"
         for name in names_bound(node):
-            if hasattr(builtins, name) or name in taken:
+            if is_builtin(name) or name in taken:
                 yield f"L15 {where}: {name}"
         for arg in node.args.args + node.args.kwonlyargs:
             if arg.annotation:
@@ -268,6 +273,29 @@ def generator_complaints(trees):
             yield f"L23 {name} is no generator's name alone"
 
 
+def class_complaints(trees):
+    """L18: no name is a method and an attribute in one class, or in a class and one above or below it."""
+    methods, attributes, bases = {}, {}, {}
+    for tree in trees.values():
+        for node in ast.walk(tree):
+            if isinstance(node, ast.ClassDef):
+                methods[node.name] = {part.name for part in node.body if isinstance(part, ast.FunctionDef)}
+                attributes[node.name] = {part.attr for part in ast.walk(node) if isinstance(part, ast.Attribute)
+                                         and isinstance(part.ctx, ast.Store)}
+                bases[node.name] = [base.id for base in node.bases if isinstance(base, ast.Name)]
+    for name in methods:
+        family, due = set(), [name]
+        while due:
+            now = due.pop()
+            if now in methods and now not in family:
+                family.add(now)
+                due += bases[now]
+        for one in family:
+            for other in family:
+                for both in sorted(methods[one] & attributes[other]):
+                    yield f"L18 {both} is a method of {one} and an attribute in {other}"
+
+
 def complaints(texts):
     """All complaints about a package, a dict from module names to the texts of its files."""
     found = []
@@ -291,4 +319,5 @@ def complaints(texts):
                  name_complaints(tree), node_complaints(tree, methods)]
         found += [f"{module}: {complaint}" for part in parts for complaint in part]
     found += list(import_complaints(trees)) + list(generator_complaints(trees))
+    found += list(class_complaints(trees))
     return found

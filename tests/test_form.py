@@ -38,6 +38,8 @@ WRONG = (
     ("L19", "def f(x):\n    raise x\n"),
     ("L4", "def g(x):\n    return x\n\n\n@g\ndef f(x):\n    return x\n"),
     ("L23", "def f():\n    yield 1\n\n\nclass A:\n    def f(self):\n        return 1\n"),
+    ("L18", "class A:\n    def f(self):\n        self.f = 1\n"),
+    ("L18", "class A:\n    def f(self):\n        return 1\n\n\nclass B(A):\n    def g(self):\n        self.f = 1\n"),
     ("L16", "from deedstand.late import g\n\n\ndef f():\n    return g()\n"),
 )
 

@@ -49,13 +49,43 @@ STAGE_2 = {
     "gapplaces": ("gap_of(births, row, sign)", "anchor_place(births, row, anchor)", "anchor_at(row, place, side)"),
 }
 
-FUNCTIONS = {**STAGE_1, **STAGE_2}
+STAGE_3 = {
+    "turning": ("coming_back(births, cuts, stand, deeds)", "touching_of(births, cuts, stand, deed)",
+                "clash_of(births, cuts, stand)"),
+    "felling": ("fell_deeds(births, cuts, stand, deed)",),
+    "plainzones": ("plain_strike(deeds, which)",),
+    "ledways": ("led_strike(text, splices, which)",),
+    "pickmarks": ("pick_held(sheet, tail, head)", "pick_told(sheet, held)"),
+    "settling": ("settled_picks(picks)", "joined_stretches(stretches)"),
+    "motions": ("moved(text, place, word)",),
+    "entering": ("put_round(picks, text)", "back_cuts(picks, text, many)", "ahead_cuts(picks, text, many)"),
+    "clips": ("clipped(text, picks)", "paste_round(picks, rows)"),
+    "folding": ("fold_held(sheet, first, last)", "fold_hides(sheet, held)", "hidden_lines(sheet, folds)"),
+}
+
+FUNCTIONS = {**STAGE_1, **STAGE_2, **STAGE_3}
 METHODS = {
     ("weaves", "Weave"): (
         "__init__(self, births, stand, tree)", "text(self)", "size(self)", "row_many(self)", "row(self, line)",
         "row_start(self, line)", "spot(self, place)", "place_at(self, line, column)", "sign_before(self, place)",
         "sign_behind(self, place)", "stretch(self, low, high)", "row_signs(self)",
         "laid_round(self, deed, splices, *, choices=())", "turned_to(self, stand)", "tidy(self)",
+    ),
+    ("sheetbase", "SheetBase"): (
+        "__init__(self, name, *, choices=())", "do(self, rounds)", "do_at(self, parent, rounds)", "undo(self)",
+        "redo(self, *, child=None)", "go(self, node)", "text(self)", "size(self)", "row_many(self)",
+        "row(self, line)", "spot(self, place)", "place_at(self, line, column)", "stretch(self, low, high)",
+        "row_signs(self)", "standing(self)", "tidy(self)", "text_at(self, node)", "standing_at(self, node)",
+        "parent(self, node)", "children(self, node)", "path(self, node)", "road(self, one, other)",
+    ),
+    ("sheetmarks", "SheetMarks"): (
+        "__init__(self, name, *, choices=())", "anchor(self, place, side)", "where(self, anchor)",
+        "gap(self, sign)", "set_mark(self, name, anchor)", "drop_mark(self, name)", "mark_places(self)",
+    ),
+    ("sheets", "Sheet"): (
+        "__init__(self, name, *, choices=())", "turn(self, deeds)", "strike(self, deed)", "stand_up(self, deed)",
+        "fell(self, deed)", "can_turn(self, deed)", "turnable(self)", "touching(self, deed)",
+        "paper(self, deeds)", "trial(self)", "plain(self)",
     ),
 }
 
