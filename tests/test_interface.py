@@ -63,7 +63,23 @@ STAGE_3 = {
     "folding": ("fold_held(sheet, first, last)", "fold_hides(sheet, held)", "hidden_lines(sheet, folds)"),
 }
 
-FUNCTIONS = {**STAGE_1, **STAGE_2, **STAGE_3}
+STAGE_4 = {
+    "patterntrees": ("bits_of(signs)", "holds(bits, sign)"),
+    "patternreading": ("read_pattern(text)",),
+    "patternwriting": ("written(tree)",),
+    "machines": ("state_many(tree)", "machine_of(tree)"),
+    "closures": ("closed(machine, states, at_start, at_end)",),
+    "plainends": ("tree_ends(tree, text, at)",),
+    "matching": ("ends_of(machine, text, at)", "longest(machine, text, at)"),
+    "findhits": ("first_hit(machine, text, at)", "last_hit(machine, text, before)",
+                 "next_hit(machine, text, behind)", "all_hits(machine, text)"),
+    "filling": ("filled(new, hit)",),
+    "hitrounds": ("sub_round(machine, text, new, stretches)",),
+    "bookreading": ("read_book(rows)", "first_mode(book)", "mode_names(book)"),
+    "lexing": ("lexed(book, mode, row)",),
+}
+
+FUNCTIONS = {**STAGE_1, **STAGE_2, **STAGE_3, **STAGE_4}
 METHODS = {
     ("weaves", "Weave"): (
         "__init__(self, births, stand, tree)", "text(self)", "size(self)", "row_many(self)", "row(self, line)",
@@ -86,6 +102,12 @@ METHODS = {
         "__init__(self, name, *, choices=())", "turn(self, deeds)", "strike(self, deed)", "stand_up(self, deed)",
         "fell(self, deed)", "can_turn(self, deed)", "turnable(self)", "touching(self, deed)",
         "paper(self, deeds)", "trial(self)", "plain(self)",
+    ),
+    ("views", "View"): (
+        "__init__(self, *, width=80, height=24, wordwise=False)", "places(self, sheet)", "hold(self, sheet, picks)",
+        "fold(self, sheet, first, last)", "unfold(self, sheet, line)", "hidden(self, sheet)",
+        "top_place(self, sheet)", "set_top(self, sheet, line)", "resize(self, width, height)",
+        "wrap(self, wordwise)", "dye(self, book)",
     ),
 }
 
