@@ -22,6 +22,7 @@ MOST_STATES = 1500
 MOST_MODES = 8
 MOST_RULES = 20
 MOST_COLOUR = 8
+MOST_FRONT = 60
 
 
 def check_many(many, most, what):

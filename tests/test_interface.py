@@ -79,7 +79,21 @@ STAGE_4 = {
     "lexing": ("lexed(book, mode, row)",),
 }
 
-FUNCTIONS = {**STAGE_1, **STAGE_2, **STAGE_3, **STAGE_4}
+STAGE_5 = {
+    "plaintints": ("tints_from_nothing(book, rows)",),
+    "depths": ("front_of(row)", "depth_of(book, mode, row)", "closes(book, mode, row)"),
+    "indenting": ("indent_round(book, text, first, last)", "feed_front(book, mode, row)"),
+    "laying": ("laid(row, width, *, wordwise=False)",),
+    "rowplaces": ("row_at(screen_rows, line, column)", "place_in(screen_rows, line, column, width)"),
+    "scrolling": ("top_row(first, caret, height)",),
+    "plainscreens": ("screen_of(text, width, height, *, wordwise=False, book=None, picks=(), folds=(), top=0)",),
+    "keptscreens": ("kept_screen(view, sheet, tints, layout)",),
+    "painting": ("paints(old, new)", "painted(old, runs)"),
+    "stamps": ("number_for(stamp, code)", "stamp_of(number)", "code_in(number)"),
+    "disks": ("slot_first(disk, epoch)", "journal_first(disk)", "files_first(disk)"),
+}
+
+FUNCTIONS = {**STAGE_1, **STAGE_2, **STAGE_3, **STAGE_4, **STAGE_5}
 METHODS = {
     ("weaves", "Weave"): (
         "__init__(self, births, stand, tree)", "text(self)", "size(self)", "row_many(self)", "row(self, line)",
@@ -108,6 +122,17 @@ METHODS = {
         "fold(self, sheet, first, last)", "unfold(self, sheet, line)", "hidden(self, sheet)",
         "top_place(self, sheet)", "set_top(self, sheet, line)", "resize(self, width, height)",
         "wrap(self, wordwise)", "dye(self, book)",
+    ),
+    ("tintkeeping", "Tints"): (
+        "__init__(self, book)", "refresh(self, rows)", "row_spans(self, line)", "row_mode(self, line)",
+    ),
+    ("layouts", "Layout"): (
+        "__init__(self, width, *, wordwise=False)", "refresh(self, rows)", "bounds(self, line)",
+        "screen_rows(self, hidden)",
+    ),
+    ("disks", "Disk"): (
+        "__init__(self, *, width=16, slot=8, journal=8, files=16)", "block_many(self)", "read(self, block)",
+        "write(self, block, numbers)", "flush(self)", "limit(self, many)", "pending(self)", "crash(self, landed)",
     ),
 }
 
