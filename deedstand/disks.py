@@ -30,6 +30,8 @@ class Disk:
         self.journal = journal
         self.files = files
         self.steps = 0
+        # How often it was flushed, by whomever.
+        self.flush_many = 0
         # How many more steps may be done, None for any number.
         self.steps_left = None
         self.landed = [(0,) * width] * self.block_many()
@@ -73,6 +75,7 @@ class Disk:
     def flush(self):
         """Let all waiting writes land."""
         self.step()
+        self.flush_many += 1
         self.landed = list(self.latest)
         self.waiting = []
 

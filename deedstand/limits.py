@@ -23,6 +23,17 @@ MOST_MODES = 8
 MOST_RULES = 20
 MOST_COLOUR = 8
 MOST_FRONT = 60
+MOST_SHEETS = 8
+MOST_HANDS = 6
+MOST_REGISTERS = 30
+MOST_ROWS = 200
+MOST_SIGNS = 2000
+MOST_PACE = 1000
+MOST_STEPS = 2000
+MOST_PLAYS = 8
+MOST_BLOCKS = 8
+# The numbers of records are below this one.
+NUMBERS_BELOW = 1000000000
 
 
 def check_many(many, most, what):

@@ -22,15 +22,21 @@ def word_at(line, at):
     return (("sign", sign), at + 1)
 
 
-def words_of(line):
-    """Return the tuple of the words of a line; one space parts them."""
+def placed_words(line):
+    """Return a list of pairs: where a word of a line begins, and the word; one space parts them."""
     if line == "":
-        return ()
+        return []
     word, at = word_at(line, 0)
-    words = [word]
+    words = [(0, word)]
     while at < len(line):
         if line[at] != " ":
             raise BadLine(at)
-        word, at = word_at(line, at + 1)
-        words.append(word)
-    return tuple(words)
+        begin = at + 1
+        word, at = word_at(line, begin)
+        words.append((begin, word))
+    return words
+
+
+def words_of(line):
+    """Return the tuple of the words of a line."""
+    return tuple([word for _, word in placed_words(line)])

@@ -93,7 +93,19 @@ STAGE_5 = {
     "disks": ("slot_first(disk, epoch)", "journal_first(disk)", "files_first(disk)"),
 }
 
-FUNCTIONS = {**STAGE_1, **STAGE_2, **STAGE_3, **STAGE_4, **STAGE_5}
+STAGE_6 = {
+    "regions": ("read_region(disk, first, many, stamp)", "put_region(disk, first, codes, start, stamp)"),
+    "recordkinds": ("is_record(thing)",),
+    "recordtexts": ("row_of_record(record)",),
+    "recordreading": ("record_of(row)",),
+    "openings": ("opened(records, *, moment=0)", "meaning_of(disk)"),
+    "keptrows": ("kept_rows(records)",),
+    "chainblocks": ("chain_of(disk, first)", "free_blocks(disk)"),
+    "commandwords": ("read_command(line)",),
+    "rolls": ("read_roll(rows)",),
+}
+
+FUNCTIONS = {**STAGE_1, **STAGE_2, **STAGE_3, **STAGE_4, **STAGE_5, **STAGE_6}
 METHODS = {
     ("weaves", "Weave"): (
         "__init__(self, births, stand, tree)", "text(self)", "size(self)", "row_many(self)", "row(self, line)",
@@ -133,6 +145,23 @@ METHODS = {
     ("disks", "Disk"): (
         "__init__(self, *, width=16, slot=8, journal=8, files=16)", "block_many(self)", "read(self, block)",
         "write(self, block, numbers)", "flush(self)", "limit(self, many)", "pending(self)", "crash(self, landed)",
+    ),
+    ("lastingstate", "Lasting"): ("__init__(self)", "tell(self, record)", "trial(self)", "plain(self)"),
+    ("journals", "Journal"): (
+        "__init__(self, disk)", "told(self)", "sure(self)", "records(self)", "fits(self, records)",
+        "tell(self, record)", "rest(self)",
+    ),
+    ("shelves", "Shelf"): (
+        "__init__(self, disk)", "names(self)", "load(self, name)", "version_of(self, name)", "room(self, name, text)",
+        "save(self, name, text, version)", "drop(self, name)",
+    ),
+    ("desks", "Desk"): (
+        "__init__(self, disk)", "told(self)", "sure(self)", "plain(self)", "sheets(self)", "text(self, name)",
+        "sheet(self, name)", "hand(self, name)", "tell(self, records)", "crash(self, landed)",
+    ),
+    ("hands", "Hand"): (
+        "__init__(self, desk, name)", "say(self, line)", "run(self, roll)", "screen(self)", "paints(self)",
+        "picks(self)", "sheet_name(self)",
     ),
 }
 
